@@ -1,10 +1,8 @@
 """Checks of arguments that several files of the package need."""
 
-from laprunners.errors import InvalidTime, UnknownName
-from laprunners.ratios import as_ratio, compare, is_number
+from laprunners.errors import InvalidNumber, InvalidTime, InvalidWindow
+from laprunners.ratios import as_ratio, is_number
 
-LETTERS = "abcdefghijklmnopqrstuvwxyz"
-DIGITS = "0123456789"
 MOST_LETTERS = 8
 
 
@@ -12,22 +10,29 @@ def is_name(value):
     """Tell whether a value can be the name of a runner."""
     if not isinstance(value, str) or not 1 <= len(value) <= MOST_LETTERS:
         return False
-    return value[0] in LETTERS and all([sign in LETTERS + DIGITS for sign in value])
+    # Of the signs in ASCII, only a to z are lowercase letters, and only 0 to 9 are digits.
+    return value.isascii() and value.isalnum() and value.islower() and value[0].isalpha()
 
 
 def is_positive(value):
     """Tell whether a value is a number greater than 0."""
-    return is_number(value) and compare(value, 0) > 0
+    return is_number(value) and as_ratio(value)[0] > 0
 
 
 def as_time(value):
     """Return a time as a ratio."""
-    if not is_number(value) or compare(value, 0) < 0:
+    try:
+        time = as_ratio(value)
+    except InvalidNumber:
+        raise InvalidTime() from None
+    if time[0] < 0:
         raise InvalidTime()
-    return as_ratio(value)
+    return time
 
 
-def need_name(race, name):
-    """Raise UnknownName unless the race has a runner with the name."""
-    if name not in race:
-        raise UnknownName(name)
+def as_window(start, end):
+    """Return the start and the end of a window as ratios."""
+    begin, until = as_time(start), as_time(end)
+    if until[0] * begin[1] < begin[0] * until[1]:
+        raise InvalidWindow()
+    return begin, until

@@ -1,9 +1,9 @@
 """Races: runners on a ring, each with pieces of constant speed."""
 
-from laprunners.checks import as_time, is_name, is_positive, need_name
-from laprunners.errors import InvalidFactor, InvalidLength, InvalidNames, InvalidRunner
-from laprunners.ratios import as_ratio, compare, divided, floor_of, in_order, is_number
-from laprunners.ratios import minus, plus, remainder, times
+from laprunners.checks import as_time, is_name, is_positive
+from laprunners.errors import InvalidFactor, InvalidLength, InvalidNames, InvalidNumber, InvalidRunner, UnknownName
+from laprunners.ratios import as_ratio, compare, divided, in_order, minus, plus, reduced, remainder, times
+from laprunners.tracks import laps_in, place_in, position_in, row_at, track_of
 
 MOST_RUNNERS = 12
 MOST_PIECES = 20
@@ -18,13 +18,8 @@ class Race:
         if not isinstance(runners, dict) or not 1 <= len(runners) <= MOST_RUNNERS:
             raise InvalidRunner(None)
         self._length = as_ratio(length)
-        # For each name the rows (time, speed, position at this time) of its pieces.
-        self._tracks = {}
-        for name, runner in runners.items():
-            if not is_name(name) or not _is_runner(runner):
-                raise InvalidRunner(name)
-            start, pieces = runner
-            self._tracks[name] = _track(remainder(start, length), pieces)
+        tracks = {name: _track(name, runner, length) for name, runner in runners.items()}
+        self._tracks = {name: tracks[name] for name in sorted(tracks)}
 
     def __eq__(self, other):
         return isinstance(other, Race) and self._length == other._length and self._tracks == other._tracks
@@ -42,48 +37,58 @@ class Race:
 
     def names(self):
         """Return the sorted list of all names."""
-        return sorted(self._tracks)
+        return list(self._tracks)
+
+    def track(self, name):
+        """Return the track of a runner, as described in tracks.py."""
+        if name not in self:
+            raise UnknownName(name)
+        return self._tracks[name]
+
+    def tracks(self):
+        """Return the dict from all names, sorted, to the tracks."""
+        return dict(self._tracks)
 
     def start(self, name):
         """Return the place of a runner at time 0."""
-        need_name(self, name)
-        return self._tracks[name][0][2]
+        _, _, _, base, unit = self.track(name)[0]
+        return reduced(base, unit)
 
     def pieces(self, name):
         """Return the tuples (time, speed) of a runner."""
-        need_name(self, name)
-        return [(time, speed) for time, speed, _ in self._tracks[name]]
+        return [(row[0], row[1]) for row in self.track(name)]
 
     def change_times(self):
         """Return the times after 0 at which pieces begin, ascending."""
-        later = [row[0] for name in self.names() for row in self._tracks[name][1:]]
-        return in_order(later)
+        return in_order([row[0] for name in self._tracks for row in self._tracks[name][1:]])
 
     def position(self, name, time):
         """Return the start of a runner plus the distance run up to a time."""
-        need_name(self, name)
-        moment = as_time(time)
-        return _position(_row_at(self._tracks[name], moment), moment)
+        track, moment = self.track(name), as_time(time)
+        top, bottom = position_in(row_at(track, moment), moment)
+        return reduced(top, bottom)
 
     def place(self, name, time):
         """Return the place of a runner at a time."""
-        return remainder(self.position(name, time), self._length)
+        track, moment = self.track(name), as_time(time)
+        return place_in(row_at(track, moment), moment, self._length)
 
     def laps(self, name, time):
         """Return how many whole lengths the position of a runner contains at a time."""
-        return floor_of(divided(self.position(name, time), self._length))
+        track, moment = self.track(name), as_time(time)
+        return laps_in(row_at(track, moment), moment, self._length)
 
     def speed(self, name, time):
         """Return the speed of a runner from a time on."""
-        need_name(self, name)
-        return _row_at(self._tracks[name], as_time(time))[1]
+        track, moment = self.track(name), as_time(time)
+        return row_at(track, moment)[1]
 
     def changed(self, name, time, speed):
         """Return the race in which a runner has a speed from a time on."""
-        need_name(self, name)
+        pieces = self.pieces(name)
         moment = as_time(time)
         last_piece = (moment, as_ratio(speed))
-        kept = [piece for piece in self.pieces(name) if compare(piece[0], moment) < 0]
+        kept = [piece for piece in pieces if compare(piece[0], moment) < 0]
         runners = self._runners()
         # The new race refuses this runner if there are now too many pieces.
         runners[name] = (self.start(name), [*kept, last_piece])
@@ -91,7 +96,8 @@ class Race:
 
     def without(self, name):
         """Return the race without a runner."""
-        need_name(self, name)
+        if name not in self:
+            raise UnknownName(name)
         runners = self._runners()
         # The new race refuses to have no runners.
         del runners[name]
@@ -132,30 +138,38 @@ class Race:
 
     def _runners(self):
         """Return a new dict from the names to the tuples (start, pieces)."""
-        return {name: (self.start(name), self.pieces(name)) for name in self.names()}
+        return {name: (self.start(name), self.pieces(name)) for name in self._tracks}
+
+
+def _track(name, runner, length):
+    """Return the track of a runner on a ring; raise InvalidRunner unless the name and the runner are valid."""
+    if not is_name(name) or not _is_runner(runner):
+        raise InvalidRunner(name)
+    try:
+        start = remainder(runner[0], length)
+        pieces = [(as_ratio(time), as_ratio(speed)) for time, speed in runner[1]]
+    except InvalidNumber:
+        raise InvalidRunner(name) from None
+    if not _are_ascending([time for time, _ in pieces]):
+        raise InvalidRunner(name)
+    return track_of(start, pieces)
 
 
 def _is_runner(value):
-    """Tell whether a value is a tuple (start, pieces)."""
+    """Tell whether a value is a tuple (start, pieces) in its form; its numbers are not looked at."""
     if not isinstance(value, tuple) or len(value) != 2:
         return False
-    return is_number(value[0]) and _are_pieces(value[1])
-
-
-def _are_pieces(value):
-    """Tell whether a value is a list or tuple of pieces that begin at 0 and ascend."""
-    if not isinstance(value, (list, tuple)) or not 1 <= len(value) <= MOST_PIECES:
+    pieces = value[1]
+    if not isinstance(pieces, (list, tuple)) or not 1 <= len(pieces) <= MOST_PIECES:
         return False
-    if not all([_is_piece(piece) for piece in value]):
+    return all([isinstance(piece, tuple) and len(piece) == 2 for piece in pieces])
+
+
+def _are_ascending(begins):
+    """Tell whether the times at which pieces begin are strictly ascending from 0 on."""
+    if begins[0] != (0, 1):
         return False
-    begins = [piece[0] for piece in value]
-    # Ratios in order are without duplicates, so the times are strictly ascending.
-    return compare(begins[0], 0) == 0 and in_order(begins) == [as_ratio(time) for time in begins]
-
-
-def _is_piece(value):
-    """Tell whether a value is a tuple (time, speed) of numbers."""
-    return isinstance(value, tuple) and len(value) == 2 and is_number(value[0]) and is_number(value[1])
+    return all([one[0] * two[1] < two[0] * one[1] for one, two in zip(begins, begins[1:])])
 
 
 def _are_new_names(race, value):
@@ -166,26 +180,3 @@ def _are_new_names(race, value):
     if not all([name in race for name in value]) or not all([is_name(name) for name in new_names]):
         return False
     return len(set(new_names)) == len(new_names)
-
-
-def _track(start, pieces):
-    """Return the rows (time, speed, position at this time) of a runner."""
-    rows = [((0, 1), as_ratio(pieces[0][1]), start)]
-    for time, speed in pieces[1:]:
-        rows.append((as_ratio(time), as_ratio(speed), _position(rows[-1], time)))
-    return rows
-
-
-def _row_at(rows, time):
-    """Return the row whose speed holds from a time on."""
-    found = rows[0]
-    for row in rows:
-        if compare(row[0], time) <= 0:
-            found = row
-    return found
-
-
-def _position(row, time):
-    """Return the position at a time at which the speed of a row holds, or its end."""
-    begin, speed, position = row
-    return plus(position, times(speed, minus(time, begin)))

@@ -4,6 +4,8 @@ from math import gcd
 
 from laprunners.errors import DivisionByZero, InvalidNumber
 
+FEW = 8
+
 
 def is_integer(value):
     """Tell whether a value is an int that is neither True nor False."""
@@ -14,9 +16,8 @@ def is_ratio(value):
     """Tell whether a value is a tuple (n, d) in lowest terms with d >= 1."""
     if not isinstance(value, tuple) or len(value) != 2:
         return False
-    if not is_integer(value[0]) or not is_integer(value[1]):
-        return False
-    return value[1] >= 1 and gcd(value[0], value[1]) == 1
+    top, bottom = value
+    return is_integer(top) and is_integer(bottom) and bottom >= 1 and gcd(top, bottom) == 1
 
 
 def is_number(value):
@@ -26,11 +27,27 @@ def is_number(value):
 
 def as_ratio(value):
     """Return a number as a ratio."""
+    # Nearly all that the package does passes here: the two usual cases come
+    # first, without further calls of functions.
+    if type(value) is tuple and len(value) == 2:
+        top, bottom = value
+        if type(top) is int and type(bottom) is int and bottom >= 1 and gcd(top, bottom) == 1:
+            return value
+    elif type(value) is int:
+        return (value, 1)
     if is_integer(value):
         return (value, 1)
     if is_ratio(value):
         return value
     raise InvalidNumber()
+
+
+def reduced(top, bottom):
+    """Return the ratio of two integers of which the second one is greater than 0."""
+    divisor = gcd(top, bottom)
+    if divisor == 1:
+        return (top, bottom)
+    return (top // divisor, bottom // divisor)
 
 
 def ratio(numerator, denominator=1):
@@ -39,38 +56,41 @@ def ratio(numerator, denominator=1):
         raise InvalidNumber()
     if denominator == 0:
         raise DivisionByZero()
-    divisor = gcd(numerator, denominator)
     if denominator < 0:
-        divisor = -divisor
-    return (numerator // divisor, denominator // divisor)
+        return reduced(-numerator, -denominator)
+    return reduced(numerator, denominator)
 
 
 def plus(first, second):
     """Return the sum of two numbers."""
     top, bottom = as_ratio(first)
     other_top, other_bottom = as_ratio(second)
-    return ratio(top * other_bottom + other_top * bottom, bottom * other_bottom)
+    return reduced(top * other_bottom + other_top * bottom, bottom * other_bottom)
 
 
 def minus(first, second):
     """Return the first number minus the second one."""
     top, bottom = as_ratio(first)
     other_top, other_bottom = as_ratio(second)
-    return ratio(top * other_bottom - other_top * bottom, bottom * other_bottom)
+    return reduced(top * other_bottom - other_top * bottom, bottom * other_bottom)
 
 
 def times(first, second):
     """Return the product of two numbers."""
     top, bottom = as_ratio(first)
     other_top, other_bottom = as_ratio(second)
-    return ratio(top * other_top, bottom * other_bottom)
+    return reduced(top * other_top, bottom * other_bottom)
 
 
 def divided(first, second):
     """Return the first number divided by the second one."""
     top, bottom = as_ratio(first)
     other_top, other_bottom = as_ratio(second)
-    return ratio(top * other_bottom, bottom * other_top)
+    if other_top == 0:
+        raise DivisionByZero()
+    if other_top < 0:
+        return reduced(-top * other_bottom, -bottom * other_top)
+    return reduced(top * other_bottom, bottom * other_top)
 
 
 def compare(first, second):
@@ -80,9 +100,7 @@ def compare(first, second):
     left, right = top * other_bottom, other_top * bottom
     if left < right:
         return -1
-    if left > right:
-        return 1
-    return 0
+    return 1 if left > right else 0
 
 
 def floor_of(value):
@@ -97,16 +115,39 @@ def remainder(value, modulus):
     other_top, other_bottom = as_ratio(modulus)
     if other_top <= 0:
         raise DivisionByZero()
-    return ratio((top * other_bottom) % (other_top * bottom), bottom * other_bottom)
+    return reduced((top * other_bottom) % (other_top * bottom), bottom * other_bottom)
 
 
 def in_order(values):
     """Return the numbers of a list as ratios, ascending, without duplicates."""
     if not isinstance(values, list):
         raise InvalidNumber()
-    rows = [as_ratio(value) for value in values]
+    return ascending([(value, 1) if type(value) is int else as_ratio(value) for value in values])
+
+
+def ascending(rows):
+    """Return the ratios of a list, ascending, without duplicates."""
+    # Inserting is faster for lists as short as those of runners, but not for long ones.
+    return _ranked(rows) if len(rows) > FEW else _inserted(rows)
+
+
+def _inserted(rows):
+    """Return the ratios of a list, ascending, without duplicates, each one put behind those that are not greater."""
+    found = []
+    for row in rows:
+        top, bottom = row
+        at = len(found)
+        while at and top * found[at - 1][1] < found[at - 1][0] * bottom:
+            at -= 1
+        if not at or found[at - 1] != row:
+            found.insert(at, row)
+    return found
+
+
+def _ranked(rows):
+    """Return the ratios of a list, ascending, without duplicates, by the sorting of integers."""
     # Different numbers are more than 1 / 2 ** bits apart, so the integer parts
     # of the numbers times 2 ** bits are different and have the same order.
-    bits = 2 * max([row[1].bit_length() for row in rows], default=0)
-    ranked = sorted({((row[0] << bits) // row[1], row) for row in rows})
-    return [row for _, row in ranked]
+    bits = 2 * max([bottom for _, bottom in rows]).bit_length()
+    ranked = {(row[0] << bits) // row[1]: row for row in rows}
+    return [ranked[part] for part in sorted(ranked)]

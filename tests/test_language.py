@@ -30,10 +30,11 @@ METHODS = set(
 BARRED_WORDS = re.compile(
     r"\b(typing|typing_extensions|enum|Enum|IntEnum|StrEnum|Flag|IntFlag|Generic|Protocol|ABC|ABCMeta|namedtuple|"
     r"NamedTuple|TypedDict|TYPE_CHECKING|abstractmethod|mro|open|input|law|register|elements)\b|dataclass|overload"
-    r"|contextmanager|metaclass="
+    r"|contextmanager|metaclass=|Meta|\(type\)"
 )
 BARRED_NODES = (
     ast.Global, ast.AsyncFunctionDef, ast.AsyncFor, ast.AsyncWith, ast.Await, ast.Import, ast.Div,
+    ast.GeneratorExp, ast.Yield, ast.YieldFrom,
 )
 
 
@@ -134,6 +135,29 @@ class Code(Case):
                 if isinstance(node, ast.FunctionDef):
                     for decorator in node.decorator_list:
                         self.assertEqual(ast.unparse(decorator), "property", path)
+
+    def test_no_sorting_in_place(self):
+        for path, tree in trees():
+            called = {node.attr for node in ast.walk(tree) if isinstance(node, ast.Attribute)}
+            self.assertNotIn("sort", called, path)
+
+    def test_type_is_only_compared_with_a_class(self):
+        for path, tree in trees():
+            named = [node for node in ast.walk(tree) if isinstance(node, ast.Name) and node.id == "type"]
+            compared = [
+                node for node in ast.walk(tree)
+                if isinstance(node, ast.Compare) and len(node.ops) == 1 and isinstance(node.ops[0], ast.Is)
+                and ast.unparse(node.left).startswith("type(")
+                and ast.unparse(node.comparators[0]) in ("int", "str", "bool", "list", "tuple", "dict")
+            ]
+            self.assertEqual(len(named), len(compared), path)
+
+    def test_a_class_with_indexes_cannot_be_iterated(self):
+        for path, tree in trees():
+            for made in [node for node in ast.walk(tree) if isinstance(node, ast.ClassDef)]:
+                methods = {node.name: node for node in made.body if isinstance(node, ast.FunctionDef)}
+                if "__getitem__" in methods:
+                    self.assertIn("raise TypeError", ast.unparse(methods["__iter__"]), path)
 
     def test_attributes_of_the_interface_are_no_methods(self):
         for path, tree in trees():

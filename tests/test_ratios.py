@@ -18,6 +18,14 @@ NUMBERS = INTEGERS + RATIOS
 TWO_NUMBERS = [plus, minus, times, divided, compare, remainder]
 
 
+class Whole(int):
+    """An integer of a kind of its own."""
+
+
+class Pair(tuple):
+    """A tuple of a kind of its own."""
+
+
 class Kinds(Case):
     def test_integers(self):
         for value in INTEGERS:
@@ -30,6 +38,18 @@ class Kinds(Case):
             self.assertIs(is_integer(value), False)
             self.assertIs(is_ratio(value), True)
             self.assertIs(is_number(value), True)
+
+    def test_integers_and_tuples_of_other_kinds(self):
+        self.assertIs(is_integer(Whole(3)), True)
+        self.assertIs(is_ratio(Pair((1, 2))), True)
+        self.assertIs(is_ratio((Whole(1), Whole(2))), True)
+        self.same(plus(Whole(3), Pair((1, 2))), (7, 2))
+        self.same(plus(Whole(3), (Whole(1), Whole(2))), (7, 2))
+        self.same(in_order([Whole(3), Pair((1, 2)), 3]), [(1, 2), (3, 1)])
+        for value in (Pair((2, 4)), Pair((1, 0)), Pair((1, 2, 3)), (Whole(2), Whole(4)), (Whole(1), -1), Pair((True, 2))):
+            self.assertIs(is_number(value), False)
+            self.fails(InvalidNumber, plus, value, 1)
+            self.fails(InvalidNumber, in_order, [1, value])
 
     def test_everything_else(self):
         for value in NO_NUMBERS + [1.0, (1.0, 2), [1, 2], (1, [2]), Fraction(1, 2), int, self]:

@@ -117,6 +117,13 @@ class Ahead(Case):
         self.same(runners_ahead(bunch(), "d", (5, 2)), ((5, 1), ["c"]))
         self.same(runners_ahead(bunch(), "c", (5, 2)), ((5, 4), ["b"]))
 
+    def test_gaps_that_differ_by_one(self):
+        rows = {"a": (0, [(0, 0)]), "b": (3, [(0, 0)]), "c": (2, [(0, 0)]), "d": (1, [(0, 0)]), "e": (1, [(0, 5)])}
+        race = Race(10, rows)
+        self.same(runners_ahead(race, "a", 0), ((1, 1), ["d", "e"]))
+        self.same(runners_ahead(race.without("d").without("e"), "a", 0), ((2, 1), ["c"]))
+        self.same(runners_ahead(race, "b", 0), ((7, 1), ["a"]))
+
     def test_over_the_end_of_the_ring(self):
         race = Race(RING, {"a": (3, [(0, 0)]), "b": ((1, 2), [(0, 0)]), "c": (1, [(0, 0)])})
         self.same(runners_ahead(race, "a", BIG), ((1, 1), ["b"]))
