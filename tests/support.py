@@ -1,6 +1,7 @@
 """What several test files need: checks of errors, and a model of a race in fractions."""
 
 import copy
+import random
 import unittest
 from fractions import Fraction
 
@@ -59,6 +60,54 @@ def crowd(runners, pieces):
             rows.append((ratio_of(Fraction(at * (who + 2), 3)), ratio_of(speed)))
         made["r" + str(who)] = (ratio_of(Fraction(who * 13 - 20, 4)), rows if who % 2 else tuple(rows))
     return made
+
+
+def model_meetings(length, runners, pair, value, start, end):
+    """The tuples (time, rate) of a window at which the gap of a pair comes to a value, and how fast it grows there.
+
+    They are found by going through all whole lengths, piece by piece.
+    """
+    ring, low, high = fraction(length), fraction(start), fraction(end)
+    first, second = [runners[name] for name in pair]
+    begins = sorted({fraction(piece[0]) for runner in (first, second) for piece in runner[1]})
+    found = []
+    for begin, until in zip(begins, begins[1:] + [max(high, begins[-1])]):
+        rate = model_speed(second, ratio_of(begin)) - model_speed(first, ratio_of(begin))
+        lead = [model_position(length, second, ratio_of(time)) - model_position(length, first, ratio_of(time))
+                for time in (begin, until)]
+        turns = [((lead[at] - fraction(value)) / ring).__floor__() for at in (0, 1)]
+        for turn in range(min(turns) - 1, max(turns) + 2):
+            if rate != 0:
+                time = begin + (fraction(value) + turn * ring - lead[0]) / rate
+                if begin < time <= until and low < time <= high:
+                    found.append((time, rate))
+    return sorted(found)
+
+
+def model_passes(length, runners, over, under, start, end):
+    """The times of a window at which a runner passes another one."""
+    meetings = model_meetings(length, runners, (under, over), 0, start, end)
+    return [time for time, rate in meetings if rate > 0]
+
+
+def small_races(many, seed):
+    """Many tuples (length, runners) of two to four runners, with meetings at changes of speeds among them."""
+    source = random.Random(seed)
+    made = []
+    for _ in range(many):
+        length = source.choice([1, 2, 5, 10, (3, 2), (7, 3)])
+        runners = {}
+        for name in source.sample(["a", "b", "c1", "d"], source.randint(2, 4)):
+            begins = [0] + sorted(source.sample(range(1, 8), source.choice([0, 0, 1, 2, 4])))
+            speeds = [source.choice([0, 1, -1, 2, -3, (1, 2), (-5, 3)]) for _ in begins]
+            runners[name] = (source.choice([0, 0, 1, (1, 2), 7, -2]), list(zip(begins, speeds)))
+        made.append((length, runners))
+    return made
+
+
+def pairs_of(runners):
+    """All pairs of two different names, sorted."""
+    return [(first, second) for first in sorted(runners) for second in sorted(runners) if first != second]
 
 
 class Case(unittest.TestCase):
