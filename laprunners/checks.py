@@ -1,7 +1,7 @@
 """Checks of arguments that several files of the package need."""
 
 from laprunners.errors import InvalidNumber, InvalidTime, InvalidWindow
-from laprunners.ratios import as_ratio, is_number
+from laprunners.ratios import as_ratio, is_less, is_number
 
 MOST_LETTERS = 8
 
@@ -33,6 +33,6 @@ def as_time(value):
 def as_window(start, end):
     """Return the start and the end of a window as ratios."""
     begin, until = as_time(start), as_time(end)
-    if until[0] * begin[1] < begin[0] * until[1]:
+    if is_less(until, begin):
         raise InvalidWindow()
     return begin, until

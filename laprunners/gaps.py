@@ -3,7 +3,8 @@
 from laprunners.checks import as_time, as_window
 from laprunners.errors import InvalidGap, InvalidNumber, LimitExceeded
 from laprunners.ratios import as_ratio, compare
-from laprunners.stretches import count_at, count_in, counter_of, part_of, stretches, time_of
+from laprunners.stretches import count_at, count_in, counter_of, stretches, time_of
+from laprunners.tracks import part_of
 
 MOST_TIMES = 2000
 

@@ -1,8 +1,9 @@
 """Moments: a first time and all later times that follow it by whole steps."""
 
-from math import gcd, lcm
+from math import lcm
 
 from laprunners.checks import as_time, is_positive
+from laprunners.congruences import common
 from laprunners.errors import InvalidCount, InvalidFactor, InvalidNumber
 from laprunners.ratios import as_ratio, divided, floor_of, is_integer, is_number, minus, plus, reduced, times
 
@@ -77,12 +78,10 @@ def _common(one, other):
     unit = lcm(one.begin[1], one.step[1], other.begin[1], other.step[1])
     begin, step = _in_units(one.begin, unit), _in_units(one.step, unit)
     other_begin, other_step = _in_units(other.begin, unit), _in_units(other.step, unit)
-    divisor = gcd(step, other_step)
-    if (other_begin - begin) % divisor != 0:
+    found = common(begin, step, other_begin, other_step)
+    if found is None:
         return None
-    period = other_step // divisor
-    steps = (other_begin - begin) // divisor * _inverse(step // divisor, period) % period
-    first, common_step = begin + steps * step, step * period
+    first, common_step = found
     # The first number that both sequences contain if the other one had no begin may be before this begin.
     if first < other_begin:
         first = other_begin + (first - other_begin) % common_step
@@ -92,15 +91,3 @@ def _common(one, other):
 def _in_units(number, unit):
     """Return a ratio, multiplied by a multiple of its denominator, as an integer."""
     return number[0] * (unit // number[1])
-
-
-def _inverse(value, modulus):
-    """Return what gives 1 modulo a modulus if it is multiplied by a value that has no common divisor with it."""
-    rest, other_rest = value, modulus
-    factor, other_factor = 1, 0
-    # Each rest is the factor beside it times the value, modulo the modulus.
-    while other_rest:
-        share = rest // other_rest
-        rest, other_rest = other_rest, rest - share * other_rest
-        factor, other_factor = other_factor, factor - share * other_factor
-    return factor % modulus

@@ -1,7 +1,8 @@
 """How often runners pass each other. Passes are counted without listing them."""
 
 from laprunners.checks import as_window
-from laprunners.stretches import count_in, counter_of, part_of, stretches
+from laprunners.stretches import count_in, counter_of, stretches
+from laprunners.tracks import part_of
 
 SAME_PLACE = (0, 1)
 

@@ -103,6 +103,21 @@ def compare(first, second):
     return 1 if left > right else 0
 
 
+def is_less(first, second):
+    """Tell whether the first one of two ratios is less than the second one."""
+    return first[0] * second[1] < second[0] * first[1]
+
+
+def lesser(first, second):
+    """Return the lesser one of two ratios."""
+    return second if is_less(second, first) else first
+
+
+def greater(first, second):
+    """Return the greater one of two ratios."""
+    return second if is_less(first, second) else first
+
+
 def floor_of(value):
     """Return the greatest integer that is not greater than a number."""
     top, bottom = as_ratio(value)

@@ -11,18 +11,6 @@ which (rate * t + base) / unit, its count, is an integer: so these times are cou
 from laprunners.ratios import ascending, reduced
 
 
-def part_of(track, start, end):
-    """Return the list of the rows of a track with speeds that a runner has within a window, or up to any time."""
-    rows = []
-    for row in track:
-        begin = row[0]
-        if not _is_before(start, begin):
-            rows = [row]
-        elif end is None or _is_before(begin, end):
-            rows.append(row)
-    return rows
-
-
 def stretches(first, second, start, end):
     """Return the stretches with different speeds of two runners, of whom part_of gave the rows of a window."""
     found = []
@@ -69,8 +57,3 @@ def time_of(counter, count):
     """Return the time at which a counter has a count."""
     _, _, rate, base, unit = counter
     return reduced(count * unit - base, rate)
-
-
-def _is_before(time, other):
-    """Tell whether a time is before another one."""
-    return time[0] * other[1] < other[0] * time[1]

@@ -6,7 +6,7 @@ until the next row, the runner has the speed, and the position at a time t is (r
 
 from math import gcd
 
-from laprunners.ratios import reduced
+from laprunners.ratios import is_less, reduced
 
 
 def track_of(start, pieces):
@@ -44,6 +44,26 @@ def row_at(track, time):
     return found
 
 
+def row_before(track, time):
+    """Return the row whose speed holds just before a time greater than 0."""
+    return [row for row in track if is_less(row[0], time)][-1]
+
+
+def lead_of(row, other, length):
+    """Return (rate, base, unit) of the lead of a row over another one.
+
+    The position of the first row minus that of the other one is (rate * t + base) / unit lengths at a time t, and unit
+    is greater than 0.
+    """
+    _, _, rate, base, unit = row
+    _, _, other_rate, other_base, other_unit = other
+    length_top, length_bottom = length
+    divisor = gcd(unit, other_unit)
+    share, other_share = other_unit // divisor, unit // divisor
+    growth, lead = rate * share - other_rate * other_share, base * share - other_base * other_share
+    return growth * length_bottom, lead * length_bottom, unit * share * length_top
+
+
 def position_in(row, time):
     """Return two integers, whose quotient is the position of a row at a time; the second one is greater than 0."""
     top, bottom = time
@@ -63,3 +83,15 @@ def laps_in(row, time, length):
     top, bottom = position_in(row, time)
     length_top, length_bottom = length
     return top * length_bottom // (length_top * bottom)
+
+
+def part_of(track, start, end):
+    """Return the list of the rows of a track with speeds that a runner has within a window, or up to any time."""
+    rows = []
+    for row in track:
+        begin = row[0]
+        if not is_less(start, begin):
+            rows = [row]
+        elif end is None or is_less(begin, end):
+            rows.append(row)
+    return rows

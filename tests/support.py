@@ -105,6 +105,19 @@ def small_races(many, seed):
     return made
 
 
+def split_pieces(runners):
+    """The runners with two pieces in place of each one, and one more, which begins late."""
+    made = {}
+    for name, (start, pieces) in runners.items():
+        begins = [fraction(piece[0]) for piece in pieces] + [Fraction(8)]
+        rows = []
+        for at, (_, speed) in enumerate(pieces):
+            middle = (begins[at] + begins[at + 1]) / 2
+            rows += [(ratio_of(begins[at]), speed), (ratio_of(middle), speed)]
+        made[name] = (start, rows + [(ratio_of(begins[-1]), pieces[-1][1]), (BIG, pieces[-1][1])])
+    return made
+
+
 def pairs_of(runners):
     """All pairs of two different names, sorted."""
     return [(first, second) for first in sorted(runners) for second in sorted(runners) if first != second]
@@ -114,10 +127,18 @@ class Case(unittest.TestCase):
     """A test case that can check errors with their fields."""
 
     def fails(self, error, call, *args, **fields):
-        """Check that a call raises exactly this error, with these fields."""
+        """Check that a call raises exactly this error, with these fields, and changes no argument."""
+        self.raised(error, lambda: call(*args), args, fields)
+
+    def named(self, error, call, arguments, **fields):
+        """Check the same of a call with arguments by name."""
+        self.raised(error, lambda: call(**arguments), list(arguments.values()), fields)
+
+    def raised(self, error, act, args, fields):
+        """Check that an act raises exactly this error, with these fields, and changes no argument."""
         before = [copied(arg) for arg in args]
         with self.assertRaises(error) as caught:
-            call(*args)
+            act()
         self.assertIs(caught.exception.__class__, error)
         for field, value in fields.items():
             found = getattr(caught.exception, field)
@@ -126,6 +147,19 @@ class Case(unittest.TestCase):
         for arg, old in zip(args, before):
             if isinstance(arg, (list, dict)):
                 self.assertEqual(arg, old)
+
+    def errors_in_order(self, call, good, faults):
+        """Check the errors of a call, each alone and each two at once.
+
+        Faults are tuples (arguments, error, fields) in the order in which the document checks them.
+        """
+        for at, (wrong, error, fields) in enumerate(faults):
+            with self.subTest(wrong=repr(wrong)):
+                self.named(error, call, {**good, **wrong}, **fields)
+            for more, _, _ in faults[at + 1:]:
+                if not wrong.keys() & more.keys():
+                    with self.subTest(wrong=repr(wrong), more=repr(more)):
+                        self.named(error, call, {**good, **more, **wrong}, **fields)
 
     def same(self, found, wanted):
         """Check that two results are equal and made of the same kinds of values."""

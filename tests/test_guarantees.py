@@ -7,7 +7,7 @@ from laprunners.gaps import count_gap, first_gap_time, gap_times
 from laprunners.passes import all_passes, pass_table, passes
 from laprunners.races import Race
 from laprunners.standings import gap, order_after, runners_ahead, standing
-from tests.support import BIG, Case, fraction, pairs_of, ratio_of, small_races
+from tests.support import BIG, Case, fraction, pairs_of, ratio_of, small_races, split_pieces
 
 TIMES = [0, (1, 2), 1, 3, (16, 3), 6, 7, (61, 8), 30, BIG]
 WINDOWS = [(0, 9), (0, 3), ((1, 2), (16, 3)), (3, 7), (6, 6), (7, 40), (BIG, BIG + 5), (0, BIG)]
@@ -27,18 +27,6 @@ def values_of(length):
 class Split(Case):
     """Splitting a piece at which the speed remains the same changes nothing."""
 
-    def split(self, runners):
-        """The runners with two pieces in place of each one, and one more, which begins late."""
-        made = {}
-        for name, (start, pieces) in runners.items():
-            begins = [fraction(piece[0]) for piece in pieces] + [Fraction(8)]
-            rows = []
-            for at, (_, speed) in enumerate(pieces):
-                middle = (begins[at] + begins[at + 1]) / 2
-                rows += [(ratio_of(begins[at]), speed), (ratio_of(middle), speed)]
-            made[name] = (start, rows + [(ratio_of(begins[-1]), pieces[-1][1]), (BIG, pieces[-1][1])])
-        return made
-
     def answers(self, race):
         found = []
         for time in TIMES:
@@ -56,7 +44,7 @@ class Split(Case):
 
     def test_split_pieces(self):
         for length, runners in small_races(25, 31):
-            one, two = Race(length, runners), Race(length, self.split(runners))
+            one, two = Race(length, runners), Race(length, split_pieces(runners))
             self.assertNotEqual(one, two)
             self.same(self.answers(two), self.answers(one))
 

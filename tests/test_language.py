@@ -98,6 +98,17 @@ class Code(Case):
                             defined = r"(?m)^((def|class) NAME\b|NAME = )".replace("NAME", alias.name)
                             self.assertRegex(text, defined, path)
 
+    def test_no_two_files_import_from_each_other(self):
+        imports = {}
+        for path, tree in trees():
+            found = [node.module.split(".") for node in ast.walk(tree) if isinstance(node, ast.ImportFrom)]
+            imports[path.stem] = {words[1] for words in found if words[0] == "laprunners"}
+        while imports:
+            free = [name for name in imports if not imports[name] & imports.keys()]
+            self.assertNotEqual(free, [], imports)
+            for name in free:
+                del imports[name]
+
     def test_builtins(self):
         known = set(dir(builtins))
         for path, tree in trees():

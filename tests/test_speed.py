@@ -3,9 +3,13 @@
 import sys
 
 from laprunners import ratios
+from laprunners.cyclic_orders import cyclic_order, first_order, order_changes
+from laprunners.events import listed_passes, nth_pass, pass_times, passes_at
 from laprunners.gaps import count_gap, first_gap_time
+from laprunners.goals import count_goal, goal_rows, goal_times, next_return, nth_goal, refusal
 from laprunners.passes import all_passes, pass_table, passes
 from laprunners.races import Race
+from laprunners.relays import carrier, handovers, relay_map
 from laprunners.standings import gap, order_after, runners_ahead, standing
 from tests.support import BIG, Case
 
@@ -68,3 +72,31 @@ class Calls(Case):
             near = calls_of(call, race, *args, 0, 9)
             self.few(near + 5, call, race, *args, 0, 10 ** 59)
         self.few(calls_of(first_gap_time, race, "b", "c", 1, 9) + 5, first_gap_time, race, "b", "c", 1, 10 ** 59)
+
+    def test_great_numbers_need_few_more_calls(self):
+        race, pair = Race((5, 2), SPREAD), ["b", "c"]
+        calls = [
+            lambda great: nth_pass(race, 10 ** 20 if great else 40),
+            lambda great: nth_goal(race, pair, 10 ** 20 if great else 40),
+            lambda great: nth_goal(race, pair, 1, after=10 ** 59 if great else 40),
+            lambda great: count_goal(race, pair, 0, 10 ** 59 if great else 40),
+            lambda great: next_return(race, after=10 ** 59 if great else 40),
+            lambda great: first_order(race, ["a", "c", "b"], after=10 ** 59 if great else 40),
+        ]
+        for call in calls:
+            self.few(calls_of(call, False) + 40, call, True)
+        # A map of a great window is put together from the one of a period, in as many steps as it has digits.
+        self.few(calls_of(relay_map, race, 0, 40) + 3000, relay_map, race, 0, 10 ** 59)
+
+    def test_goals_events_orders_and_relays(self):
+        race = Race((5, 2), SPREAD)
+        for goal in (["a", "b", "c"], {"a": 0, "b": 1, "c": 2}):
+            for call, args in ((goal_rows, ()), (count_goal, (0, 12)), (goal_times, (0, 12)), (nth_goal, (9,)), (refusal, ())):
+                self.few(300, call, race, goal, *args)
+        for call in (pass_times, listed_passes, relay_map, order_changes):
+            self.few(1500, call, race, 0, 12)
+        self.few(1500, carrier, race, "a", 0, 12)
+        self.few(1500, handovers, race, "a", 0, 12)
+        self.few(200, passes_at, race, 7)
+        self.few(600, nth_pass, race, 30)
+        self.few(150, cyclic_order, race, 7)
